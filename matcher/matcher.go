@@ -1,0 +1,39 @@
+// Package matcher: patterns that are searched for by trying, and a table that spares tries: see DOC.md.
+package matcher
+
+import (
+	"matcher/api"
+	"matcher/code"
+	"matcher/tree"
+)
+
+// Check tells whether a text is a pattern (P3).
+func Check(pattern string) (api.Errno, int) {
+	read, e, at := tree.Build(pattern)
+	if e != api.OK {
+		return e, at
+	}
+	if code.Size(read) > api.MaxCode {
+		return api.ErrBig, 0
+	}
+	return api.OK, 0
+}
+
+// Code gives the code of a pattern (P4).
+func Code(pattern string) ([]api.Inst, api.Errno) { return nil, api.OK }
+
+// Weight tells the weight of a pattern's code (P5).
+func Weight(pattern string) (int, api.Errno) { return 0, api.OK }
+
+// Chosen tells which instructions go into the table (P8).
+func Chosen(pattern string, policy int, mask int) ([]int, api.Errno) { return nil, api.OK }
+
+// Find searches a text from a position on (P6).
+func Find(pattern string, text string, from int, o api.Options) (api.Found, api.Errno) {
+	return api.Found{}, api.OK
+}
+
+// FindAll searches a text again and again (P11).
+func FindAll(pattern string, text string, o api.Options) ([]api.Found, int, api.Errno) {
+	return nil, 0, api.OK
+}
