@@ -1,4 +1,4 @@
-// Package code tells of the code of a pattern.
+// Package code tells how long the code of a pattern is, lays it, and weighs it.
 package code
 
 import (

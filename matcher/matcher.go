@@ -9,21 +9,39 @@ import (
 
 // Check tells whether a text is a pattern (P3).
 func Check(pattern string) (api.Errno, int) {
-	read, e, at := tree.Build(pattern)
+	_, e, at := read(pattern)
+	return e, at
+}
+
+// read gives the tree of a pattern that has a code, or what Check answers.
+func read(pattern string) (tree.Tree, api.Errno, int) {
+	whole, e, at := tree.Build(pattern)
 	if e != api.OK {
-		return e, at
+		return tree.Tree{}, e, at
 	}
-	if code.Size(read) > api.MaxCode {
-		return api.ErrBig, 0
+	if code.Size(whole) > api.MaxCode {
+		return tree.Tree{}, api.ErrBig, 0
 	}
-	return api.OK, 0
+	return whole, api.OK, 0
 }
 
 // Code gives the code of a pattern (P4).
-func Code(pattern string) ([]api.Inst, api.Errno) { return nil, api.OK }
+func Code(pattern string) ([]api.Inst, api.Errno) {
+	whole, e, _ := read(pattern)
+	if e != api.OK {
+		return nil, e
+	}
+	return code.Lay(whole), api.OK
+}
 
 // Weight tells the weight of a pattern's code (P5).
-func Weight(pattern string) (int, api.Errno) { return 0, api.OK }
+func Weight(pattern string) (int, api.Errno) {
+	list, e := Code(pattern)
+	if e != api.OK {
+		return 0, e
+	}
+	return code.Weight(list), api.OK
+}
 
 // Chosen tells which instructions go into the table (P8).
 func Chosen(pattern string, policy int, mask int) ([]int, api.Errno) { return nil, api.OK }

@@ -247,7 +247,7 @@ func (m maker) atom(depth int) string {
 	if depth > 0 && m.Intn(2) == 0 {
 		return m.of("(", "(", "(?:", "(?>", "(?=", "(?!") + m.alternatives(depth-1) + ")"
 	}
-	return m.of("a", ".", "^", "$", `\1`, `\2`, `\d`, `\.`, "[a-c]", `[^\]]`)
+	return m.of("a", "b", ".", "^", "$", `\1`, `\2`, `\d`, `\w`, `\.`, "[a-c]", "[cab-d]", `[^\]]`, `[^\--\]\d]`)
 }
 
 // spoil changes a byte, or takes one out, or puts one in.

@@ -4,12 +4,14 @@ import "matcher/api"
 
 func readClass(pattern string, at int) (Token, api.Errno) {
 	next := at + 1
-	if byteAt(pattern, next) == '^' {
+	inverted := byteAt(pattern, next) == '^'
+	if inverted {
 		next++
 	}
 	first := next
+	var set byteSet
 	for byteAt(pattern, next) != ']' {
-		end, ok := readItem(pattern, next)
+		end, ok := readItem(pattern, next, &set)
 		if !ok {
 			return Token{}, api.ErrClass
 		}
@@ -18,14 +20,18 @@ func readClass(pattern string, at int) (Token, api.Errno) {
 	if next == first {
 		return Token{}, api.ErrClass
 	}
-	return Token{Kind: Bytes, End: next + 1}, api.OK
+	if inverted {
+		set.invert()
+	}
+	return Token{Kind: Bytes, End: next + 1, Set: set.text()}, api.OK
 }
 
-// readItem reads an item of a class and tells where it ends.
-func readItem(pattern string, at int) (int, bool) {
+// readItem reads an item of a class, adds its bytes to the set and tells where it ends.
+func readItem(pattern string, at int, set *byteSet) (int, bool) {
 	if byteAt(pattern, at) == '\\' {
 		escaped := byteAt(pattern, at+1)
 		if isSetLetter(escaped) {
+			set.addLetter(escaped)
 			return at + 2, true
 		}
 	}
@@ -34,12 +40,14 @@ func readItem(pattern string, at int) (int, bool) {
 		return 0, false
 	}
 	if byteAt(pattern, end) != '-' {
+		set.addRange(low, low)
 		return end, true
 	}
 	high, rangeEnd, ok := readClassByte(pattern, end+1)
 	if !ok || low > high {
 		return 0, false
 	}
+	set.addRange(low, high)
 	return rangeEnd, true
 }
 

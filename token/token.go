@@ -42,11 +42,13 @@ type Token struct {
 	Group             int
 	Number            int
 	Least, Most, Mood int
+	Set               string // the bytes that are let by, rising, each once
 }
 
 // Read reads the token that begins at a place. Behind the pattern's end that is Nothing.
 func Read(pattern string, at int) (Token, api.Errno) {
-	switch byteAt(pattern, at) {
+	first := byteAt(pattern, at)
+	switch first {
 	case noByte:
 		return Token{}, api.OK
 	case '|':
@@ -67,12 +69,21 @@ func Read(pattern string, at int) (Token, api.Errno) {
 		return Token{Kind: Head, End: at + 1}, api.OK
 	case '$':
 		return Token{Kind: Tail, End: at + 1}, api.OK
+	case '.':
+		return letBy(0, 255, at+1), api.OK
 	case '[':
 		return readClass(pattern, at)
 	case '\\':
 		return readEscape(pattern, at)
 	}
-	return Token{Kind: Bytes, End: at + 1}, api.OK
+	return letBy(first, first, at+1), api.OK
+}
+
+// letBy gives the token that ends at a place and lets by all bytes from the first to the last.
+func letBy(first int, last int, end int) Token {
+	var set byteSet
+	set.addRange(first, last)
+	return Token{Kind: Bytes, End: end, Set: set.text()}
 }
 
 func readOpening(pattern string, at int) (Token, api.Errno) {
@@ -100,8 +111,13 @@ func readEscape(pattern string, at int) (Token, api.Errno) {
 	if next >= '1' && next <= '9' {
 		return Token{Kind: Back, End: at + 2, Number: next - '0'}, api.OK
 	}
-	if isSetLetter(next) || canBeEscaped(next) {
-		return Token{Kind: Bytes, End: at + 2}, api.OK
+	if isSetLetter(next) {
+		var set byteSet
+		set.addLetter(next)
+		return Token{Kind: Bytes, End: at + 2, Set: set.text()}, api.OK
+	}
+	if canBeEscaped(next) {
+		return letBy(next, next, at+2), api.OK
 	}
 	return Token{}, api.ErrEscape
 }

@@ -6,6 +6,20 @@ import (
 	"matcher/api"
 )
 
+const (
+	digits = "0123456789"
+	words  = digits + "ABCDEFGHIJKLMNOPQRSTUVWXYZ_abcdefghijklmnopqrstuvwxyz"
+)
+
+// from gives all bytes from the first to the last.
+func from(first int, last int) string {
+	s := ""
+	for b := first; b <= last; b++ {
+		s += string([]byte{byte(b)})
+	}
+	return s
+}
+
 func TestRead(t *testing.T) {
 	for _, c := range []struct {
 		pattern string
@@ -35,17 +49,17 @@ func TestRead(t *testing.T) {
 		{"{1,20}*", Token{Kind: Repeat, End: 6, Least: 1, Most: 20, Mood: Greedy}},
 		{"^^", Token{Kind: Head, End: 1}},
 		{"$", Token{Kind: Tail, End: 1}},
-		{".*", Token{Kind: Bytes, End: 1}},
-		{"a", Token{Kind: Bytes, End: 1}},
-		{"\xff\xff", Token{Kind: Bytes, End: 1}},
-		{"]", Token{Kind: Bytes, End: 1}},
-		{"}", Token{Kind: Bytes, End: 1}},
-		{"[a]]", Token{Kind: Bytes, End: 3}},
-		{`[^\]-a\d]]`, Token{Kind: Bytes, End: 9}},
-		{`\dd`, Token{Kind: Bytes, End: 2}},
-		{`\w`, Token{Kind: Bytes, End: 2}},
-		{`\\d`, Token{Kind: Bytes, End: 2}},
-		{`\_`, Token{Kind: Bytes, End: 2}},
+		{".*", Token{Kind: Bytes, End: 1, Set: from(0, 255)}},
+		{"a", Token{Kind: Bytes, End: 1, Set: "a"}},
+		{"\xff\xff", Token{Kind: Bytes, End: 1, Set: "\xff"}},
+		{"]", Token{Kind: Bytes, End: 1, Set: "]"}},
+		{"}", Token{Kind: Bytes, End: 1, Set: "}"}},
+		{"[a]]", Token{Kind: Bytes, End: 3, Set: "a"}},
+		{`[^\]-a\d]]`, Token{Kind: Bytes, End: 9, Set: from(0, '0'-1) + from('9'+1, '\\') + from('b', 255)}},
+		{`\dd`, Token{Kind: Bytes, End: 2, Set: digits}},
+		{`\w`, Token{Kind: Bytes, End: 2, Set: words}},
+		{`\\d`, Token{Kind: Bytes, End: 2, Set: `\`}},
+		{`\_`, Token{Kind: Bytes, End: 2, Set: "_"}},
 		{`\1`, Token{Kind: Back, End: 2, Number: 1}},
 		{`\99`, Token{Kind: Back, End: 2, Number: 9}},
 	} {
@@ -55,6 +69,28 @@ func TestRead(t *testing.T) {
 			if got, e := Read(before+c.pattern, len(before)); e != api.OK || got != want {
 				t.Errorf("Read(%q, %d) = %+v, %d, want %+v", before+c.pattern, len(before), got, e, want)
 			}
+		}
+	}
+}
+
+func TestReadSet(t *testing.T) {
+	for b := 0; b < 256; b++ {
+		own := from(b, b)
+		if got, _ := Read("["+own+"]", 0); got.Kind == Bytes && got.Set != own {
+			t.Errorf("the set of [%q] is %q", own, got.Set)
+		}
+		if got, _ := Read("[^\\"+own+"]", 0); got.Kind == Bytes && own != "d" && own != "w" && got.Set != from(0, b-1)+from(b+1, 255) {
+			t.Errorf("the set of [^\\%q] is %q", own, got.Set)
+		}
+	}
+	for _, c := range []struct{ pattern, want string }{
+		{"[ba]", "ab"}, {"[aa]", "a"}, {"[c-ea-d]", "abcde"}, {"[a-a]", "a"}, {"[a^]", "^a"}, {"[^^]", from(0, '^'-1) + from('^'+1, 255)}, {"[^^-a]", from(0, '^'-1) + from('b', 255)},
+		{`[\d]`, digits}, {`[\w]`, words}, {`[\d\w]`, words}, {`[\d\d]`, digits}, {`[_\d]`, digits + "_"}, {`[\]\-\\]`, `-\]`}, {`[\--/]`, "-./"}, {`[+-\-]`, "+,-"},
+		{"[\x00-\xff]", from(0, 255)}, {"[^\x00-\xff]", ""}, {"[^\x00]", from(1, 255)}, {"[\xff\x80\x7f]", "\x7f\x80\xff"}, {`[^\w]`, from(0, '0'-1) + from('9'+1, 'A'-1) + from('Z'+1, '_'-1) + "`" + from('z'+1, 255)},
+		{"[.]", "."}, {"[*-,]", "*+,"}, {"[[]", "["}, {"[$|(){}?]", "$()?{|}"}, {`\^`, "^"}, {"\\\xff", "\xff"}, {`\-`, "-"},
+	} {
+		if got, _ := Read(c.pattern, 0); got.Set != c.want {
+			t.Errorf("the set of %q is %q, want %q", c.pattern, got.Set, c.want)
 		}
 	}
 }
