@@ -4,6 +4,7 @@ package matcher
 import (
 	"matcher/api"
 	"matcher/code"
+	"matcher/machine"
 	"matcher/tree"
 )
 
@@ -48,7 +49,25 @@ func Chosen(pattern string, policy int, mask int) ([]int, api.Errno) { return ni
 
 // Find searches a text from a position on (P6).
 func Find(pattern string, text string, from int, o api.Options) (api.Found, api.Errno) {
-	return api.Found{}, api.OK
+	list, e := Code(pattern)
+	if e != api.OK {
+		return api.Found{}, e
+	}
+	if len(text) > api.MaxText {
+		return api.Found{}, api.ErrLong
+	}
+	if from < 0 || from > len(text) || !withinBounds(o) {
+		return api.Found{}, api.ErrArg
+	}
+	return machine.Search(list, text, from, o.Budget)
+}
+
+// withinBounds tells whether each number of the options is within its bounds.
+func withinBounds(o api.Options) bool {
+	if o.Policy < api.None || o.Policy > api.Masked || o.Mask < 0 || o.Mask > api.MaxMask {
+		return false
+	}
+	return o.Room >= 0 && o.Room <= api.MaxRoom && o.Budget >= 0 && o.Budget <= api.MaxBudget
 }
 
 // FindAll searches a text again and again (P11).
