@@ -1,4 +1,4 @@
-// Package code tells how long the code of a pattern is, lays it, and weighs it.
+// Package code tells how long the code of a pattern is, lays it, weighs it, and tells which of its instructions are chosen.
 package code
 
 import (

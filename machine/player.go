@@ -8,6 +8,7 @@ type player struct {
 	text    string
 	budget  int
 	steps   int
+	table   table
 	waiting []state // of all runs that are not over, the innermost run's last
 }
 
@@ -21,6 +22,10 @@ func (p *player) run(first state) (state, bool) {
 		s := p.waiting[last]
 		p.waiting = p.waiting[:last]
 		p.steps++
+		known := p.table.ends(s)
+		if known {
+			continue
+		}
 		ended := p.look(s)
 		if ended {
 			p.waiting = p.waiting[:before]

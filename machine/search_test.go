@@ -44,10 +44,10 @@ func TestSearch(t *testing.T) {
 		{"an ahead Sub", []api.Inst{{Op: api.Sub, X: api.Ahead, Y: 3}, a, done, a, match}, "a", 0, api.Found{Ok: true, At: places(0, 1), Steps: 5}},
 		{"a never Sub", []api.Inst{{Op: api.Sub, X: api.Never, Y: 3}, a, done, b, match}, "ab", 0, api.Found{Ok: true, At: places(1, 2), Steps: 7}},
 	} {
-		if got, e := Search(c.code, c.text, c.from, c.want.Steps); e != api.OK || got != c.want {
+		if got, e := Search(Task{Code: c.code, Text: c.text}, c.from, c.want.Steps); e != api.OK || got != c.want {
 			t.Errorf("%s: %v, %d, want %v", c.name, got, e, c.want)
 		}
-		if got, e := Search(c.code, c.text, c.from, c.want.Steps-1); e != api.ErrBudget || got != (api.Found{}) {
+		if got, e := Search(Task{Code: c.code, Text: c.text}, c.from, c.want.Steps-1); e != api.ErrBudget || got != (api.Found{}) {
 			t.Errorf("%s, a step too few: %v, %d", c.name, got, e)
 		}
 	}

@@ -51,18 +51,20 @@ func expectFind(t *testing.T, promise string, cases []searched) {
 			t.Errorf("%s: Find(%q, %q, %d) = %v, %d, want %v", promise, c.pattern, c.text, c.from, got, e, want)
 			continue
 		}
-		expectBudget(t, c.pattern, c.text, c.from, got)
+		expectBudget(t, c.pattern, c.text, c.from, api.Options{}, got)
 	}
 }
 
 // expectBudget tries a budget of just the steps of a search and one of a step less.
-func expectBudget(t *testing.T, pattern string, text string, from int, found api.Found) {
+func expectBudget(t *testing.T, pattern string, text string, from int, o api.Options, found api.Found) {
 	t.Helper()
-	if got, e := Find(pattern, text, from, api.Options{Budget: found.Steps}); e != api.OK || got != found {
-		t.Errorf("P6: Find(%q, %q, %d) with just enough steps = %v, %d, want %v", pattern, text, from, got, e, found)
+	o.Budget = found.Steps
+	if got, e := Find(pattern, text, from, o); e != api.OK || got != found {
+		t.Errorf("P6: Find(%q, %q, %d, %+v) with just enough steps = %v, %d, want %v", pattern, text, from, o, got, e, found)
 	}
-	if got, e := Find(pattern, text, from, api.Options{Budget: found.Steps - 1}); e != api.ErrBudget || got != (api.Found{}) {
-		t.Errorf("P6: Find(%q, %q, %d) with a step too few = %v, %d, want ErrBudget", pattern, text, from, got, e)
+	o.Budget--
+	if got, e := Find(pattern, text, from, o); e != api.ErrBudget || got != (api.Found{}) {
+		t.Errorf("P6: Find(%q, %q, %d, %+v) with a step too few = %v, %d, want ErrBudget", pattern, text, from, o, got, e)
 	}
 }
 

@@ -13,6 +13,9 @@ type tries struct {
 	list        []api.Inst
 	text        string
 	steps, most int
+	chosen      map[int]int // of each that is chosen in how many loops it stands
+	table       map[alike]bool
+	room        int
 }
 
 type tried struct {
@@ -33,6 +36,9 @@ func (m *tries) from(s tried) *tried {
 		return nil
 	}
 	m.steps++
+	if m.known(s) {
+		return nil
+	}
 	in, next := m.list[s.at], s.to(s.at+1)
 	rest := m.text[s.position:]
 	switch in.Op {
@@ -104,11 +110,14 @@ func nowhere() [20]int {
 	return at
 }
 
-func modelFind(list []api.Inst, text string, from int, budget int) (api.Found, api.Errno) {
-	m := tries{list: list, text: text, most: budget}
+func modelFind(list []api.Inst, text string, from int, o api.Options) (api.Found, api.Errno) {
+	m := tries{list: list, text: text, most: o.Budget, chosen: map[int]int{}, table: map[alike]bool{}, room: o.Room}
+	for _, at := range modelChosen(list, o.Policy, o.Mask) {
+		m.chosen[at] = modelLoops(list, at)
+	}
 	for start := from; start <= len(text); start++ {
 		end := m.from(tried{position: start, places: nowhere()})
-		if m.steps > budget {
+		if m.steps > o.Budget {
 			return api.Found{}, api.ErrBudget
 		}
 		if end != nil {
@@ -315,8 +324,9 @@ type seen struct {
 // compareFind compares Find with both models.
 func (n *seen) compareFind(t *testing.T, p string, text string, from int) {
 	t.Helper()
-	want, wantE := modelFind(modelCode(p), text, from, api.MaxBudget)
-	got, e := Find(p, text, from, api.Options{Budget: api.MaxBudget})
+	none := api.Options{Budget: api.MaxBudget}
+	want, wantE := modelFind(modelCode(p), text, from, none)
+	got, e := Find(p, text, from, none)
 	if e != wantE || got != want {
 		t.Fatalf("P6: Find(%q, %q, %d) = %v, %d, want %v, %d", p, text, from, got, e, want, wantE)
 	}
@@ -324,7 +334,7 @@ func (n *seen) compareFind(t *testing.T, p string, text string, from int) {
 		n.budget++
 		return
 	}
-	expectBudget(t, p, text, from, got)
+	expectBudget(t, p, text, from, none, got)
 	if got.Ok {
 		n.found++
 	} else {

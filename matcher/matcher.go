@@ -45,32 +45,55 @@ func Weight(pattern string) (int, api.Errno) {
 }
 
 // Chosen tells which instructions go into the table (P8).
-func Chosen(pattern string, policy int, mask int) ([]int, api.Errno) { return nil, api.OK }
+func Chosen(pattern string, policy int, mask int) ([]int, api.Errno) {
+	list, e := Code(pattern)
+	if e != api.OK {
+		return nil, e
+	}
+	if !isChoice(policy, mask) {
+		return nil, api.ErrArg
+	}
+	return code.Chosen(list, policy, mask), api.OK
+}
+
+// isChoice tells whether a policy and a mask are within their bounds.
+func isChoice(policy int, mask int) bool {
+	return policy >= api.None && policy <= api.Masked && mask >= 0 && mask <= api.MaxMask
+}
 
 // Find searches a text from a position on (P6).
 func Find(pattern string, text string, from int, o api.Options) (api.Found, api.Errno) {
-	list, e := Code(pattern)
+	t, e := prepare(pattern, text, o)
 	if e != api.OK {
 		return api.Found{}, e
 	}
-	if len(text) > api.MaxText {
-		return api.Found{}, api.ErrLong
-	}
-	if from < 0 || from > len(text) || !withinBounds(o) {
+	if from < 0 || from > len(text) {
 		return api.Found{}, api.ErrArg
 	}
-	return machine.Search(list, text, from, o.Budget)
+	return machine.Search(t, from, o.Budget)
 }
 
-// withinBounds tells whether each number of the options is within its bounds.
-func withinBounds(o api.Options) bool {
-	if o.Policy < api.None || o.Policy > api.Masked || o.Mask < 0 || o.Mask > api.MaxMask {
-		return false
+// prepare gives what has to be searched for and how, or the error of all searches with these arguments.
+func prepare(pattern string, text string, o api.Options) (machine.Task, api.Errno) {
+	list, e := Code(pattern)
+	if e != api.OK {
+		return machine.Task{}, e
 	}
-	return o.Room >= 0 && o.Room <= api.MaxRoom && o.Budget >= 0 && o.Budget <= api.MaxBudget
+	if len(text) > api.MaxText {
+		return machine.Task{}, api.ErrLong
+	}
+	if !isChoice(o.Policy, o.Mask) || o.Room < 0 || o.Room > api.MaxRoom || o.Budget < 0 || o.Budget > api.MaxBudget {
+		return machine.Task{}, api.ErrArg
+	}
+	chosen := code.Chosen(list, o.Policy, o.Mask)
+	return machine.Task{Code: list, Chosen: chosen, Text: text, Room: o.Room}, api.OK
 }
 
 // FindAll searches a text again and again (P11).
 func FindAll(pattern string, text string, o api.Options) ([]api.Found, int, api.Errno) {
-	return nil, 0, api.OK
+	t, e := prepare(pattern, text, o)
+	if e != api.OK {
+		return nil, 0, e
+	}
+	return machine.SearchAll(t, o.Budget)
 }
